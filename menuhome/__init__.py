@@ -1,0 +1,1 @@
+"""Phone menus that call menus and come home."""

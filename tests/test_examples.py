@@ -1,0 +1,44 @@
+"""The examples that the document shows for what is built so far, and those of the README."""
+
+import doctest
+import pathlib
+import unittest
+
+from menuhome.boards import Board
+from menuhome.calls import play
+from samples import LINES
+
+README = pathlib.Path(__file__).parent.parent / "README.md"
+
+
+class Examples(unittest.TestCase):
+    def setUp(self):
+        self.board = Board.read("\n".join(LINES))
+
+    def test_board(self):
+        board = self.board
+        self.assertEqual(
+            (board.names, board.lines, board.menu("pay").action("2"), str(board.menu("ask")).split("\n")[0]),
+            (("top", "pay", "ask", "bye"), ("cash", "desk"), "back", "menu ask tries 1 clear"),
+        )
+
+    def test_calls(self):
+        board = self.board
+        one, two = play(board, ["1", "-1"]), play(board, ["13"])
+        self.assertEqual(
+            (one.stack, one.tries, one.end, one.presses, one.started),
+            (("bye",), 1, None, 2, ("top", "pay", "bye", "bye")),
+        )
+        three, four, five = play(board, ["5", "-3"]), play(board, ["29", "-"]), play(board, ["12"])
+        self.assertEqual(
+            (two.stack, two.tries, three.end, four.end, five.stack), (("bye",), 1, "desk", "out", ("bye",))
+        )
+
+    def test_readme(self):
+        failed, tried = doctest.testfile(str(README), module_relative=False)
+        self.assertEqual(failed, 0)
+        self.assertGreater(tried, 0)
+
+
+if __name__ == "__main__":
+    unittest.main()
