@@ -30,6 +30,11 @@ def board():
     return Board.read("\n".join(LINES))
 
 
+def read(*menus):
+    """The board with the texts of these menus."""
+    return Board.read("\n".join(menus))
+
+
 def nested(depth):
     """Lists and tuples in each other, so many deep."""
     value = "1"

@@ -9,15 +9,11 @@ from menuhome.calls import Played, play
 from menuhome.errors import InvalidEvent
 from menuhome.menus import Menu
 from model import Model
-from samples import any_values, board
+from samples import any_values, board, read
 
 
 def told(played):
     return played.stack, played.tries, played.end, played.presses, played.started
-
-
-def read(*menus):
-    return Board.read("\n".join(menus))
 
 
 def modelled(shown, events):

@@ -6,6 +6,10 @@ import unittest
 
 from menuhome.boards import Board
 from menuhome.calls import play
+from menuhome.deciding import beneath, caught, comes, fewest, never, silence, way
+from menuhome.hearts import by_heart, hearts
+from menuhome.late import astray
+from menuhome.papers import paper, paper_holds
 from samples import LINES
 
 README = pathlib.Path(__file__).parent.parent / "README.md"
@@ -14,6 +18,18 @@ README = pathlib.Path(__file__).parent.parent / "README.md"
 class Examples(unittest.TestCase):
     def setUp(self):
         self.board = Board.read("\n".join(LINES))
+
+    def test_overview(self):
+        board = self.board
+        self.assertEqual(
+            (fewest(board, ["top"], "desk"), fewest(board, ["pay", "top"], "desk"), fewest(board, ["ask"], "desk"),
+             caught(board)),
+            (1, 1, None, ("ask", "bye")),
+        )
+        self.assertEqual(
+            (silence(board, ["top"]), silence(board, ["pay", "top"]), silence(board, ["bye"]), astray(board)),
+            ("round", "round", "out", (("pay", "1", "bye"),)),
+        )
 
     def test_board(self):
         board = self.board
@@ -32,6 +48,31 @@ class Examples(unittest.TestCase):
         three, four, five = play(board, ["5", "-3"]), play(board, ["29", "-"]), play(board, ["12"])
         self.assertEqual(
             (two.stack, two.tries, three.end, four.end, five.stack), (("bye",), 1, "desk", "out", ("bye",))
+        )
+
+    def test_deciding(self):
+        board = self.board
+        self.assertEqual(
+            (play(board, way(board, "cash")).presses, never(board), comes(board), beneath(board, "pay"),
+             beneath(board, "bye")),
+            (2, (), ("ask", "bye", "pay", "top"), ("bye",), ("",)),
+        )
+
+    def test_hearts(self):
+        board = self.board
+        self.assertEqual(
+            (by_heart(board, "cash"), by_heart(board, "desk"), hearts(board.having("top", "1", "go ask")),
+             len(by_heart(board.having("pay", "1", "call bye top"), "desk"))),
+            ("11", "3", ("desk",), 1),
+        )
+
+    def test_papers(self):
+        board = self.board
+        told = paper(board, "cash")
+        self.assertEqual(
+            (paper_holds(board, "cash", 2, told), paper_holds(board, "cash", 3, told),
+             paper_holds(board, "cash", 2, told[1:])),
+            (True, False, False),
         )
 
     def test_readme(self):

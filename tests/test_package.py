@@ -3,18 +3,29 @@
 import ast
 import inspect
 import pathlib
+import random
+import time
 import unittest
 
 import menuhome
 import menuhome.boards
 import menuhome.calls
+import menuhome.deciding
 import menuhome.errors
+import menuhome.hearts
+import menuhome.late
 import menuhome.menus
+import menuhome.papers
+from chances import full_board, some_board
 from menuhome.boards import Board
 from menuhome.calls import Played, play
-from menuhome.errors import InvalidMenu, NoMenu
+from menuhome.deciding import beneath, caught, comes, fewest, never, silence, way
+from menuhome.errors import InvalidEvent, InvalidGoal, InvalidMenu, InvalidStack, NoMenu
+from menuhome.hearts import by_heart, hearts
+from menuhome.late import astray
 from menuhome.menus import Menu
-from samples import LINES, board
+from menuhome.papers import paper, paper_holds
+from samples import LINES, board, read
 
 CLASSES = {
     menuhome.errors: {
@@ -39,6 +50,35 @@ CLASSES = {
         "Played": (None, []),
     },
 }
+
+FUNCTIONS = {
+    menuhome.calls: {"play": ["board", "events"]},
+    menuhome.deciding: {
+        "fewest": ["board", "stack", "goal"],
+        "way": ["board", "goal"],
+        "never": ["board"],
+        "comes": ["board"],
+        "caught": ["board"],
+        "beneath": ["board", "name"],
+        "silence": ["board", "stack"],
+    },
+    menuhome.late: {"astray": ["board"]},
+    menuhome.hearts: {"by_heart": ["board", "goal"], "hearts": ["board"]},
+    menuhome.papers: {"paper": ["board", "goal"], "paper_holds": ["board", "goal", "least", "value"]},
+}
+
+
+def decided(shown):
+    """All that is decided about a board: pairs of what is asked and what is told."""
+    asked = [(never, ()), (comes, ()), (caught, ()), (astray, ()), (hearts, ())]
+    asked += [(beneath, (name,)) for name in shown.names]
+    stacks = [shown.names, shown.names[::-1]] + [[name] for name in shown.names]
+    asked += [(silence, (stack,)) for stack in stacks]
+    asked += [(fewest, (stack, goal)) for stack in stacks for goal in (*shown.lines, "back")]
+    for line in shown.lines:
+        asked += [(way, (line,)), (by_heart, (line,)), (paper, (line,))]
+        asked += [(paper_holds, (line, 2, paper(shown, line)))]
+    return [(function, arguments, function(shown, *arguments)) for function, arguments in asked]
 
 
 def parameters(function):
@@ -66,9 +106,13 @@ class Interface(unittest.TestCase):
         self.assertIsInstance(vars(Menu)["read"], classmethod)
         self.assertIsInstance(vars(Board)["read"], classmethod)
 
-    def test_play_stands_in_its_file(self):
-        self.assertEqual(parameters(play), ["board", "events"])
-        self.assertEqual(play.__module__, "menuhome.calls")
+    def test_functions_stand_in_their_files(self):
+        for module, functions in FUNCTIONS.items():
+            for name, arguments in functions.items():
+                function = getattr(module, name)
+                self.assertTrue(inspect.isfunction(function))
+                self.assertEqual(function.__module__, module.__name__)
+                self.assertEqual(parameters(function), arguments)
 
     def test_defaults(self):
         menu = Menu("top", [], "out")
@@ -97,6 +141,17 @@ class Basics(unittest.TestCase):
         )
         self.assertEqual(play(board=board(), events=["3"]).end, "desk")
 
+    def test_arguments_by_name_of_what_is_decided(self):
+        shown = board()
+        self.assertEqual(fewest(board=shown, stack=["top"], goal="desk"), 1)
+        self.assertEqual(way(goal="desk", board=shown), ("3",))
+        self.assertEqual((never(board=shown), comes(board=shown)), ((), ("ask", "bye", "pay", "top")))
+        self.assertEqual((caught(board=shown), beneath(name="pay", board=shown)), (("ask", "bye"), ("bye",)))
+        self.assertEqual((silence(stack=["top"], board=shown), astray(board=shown)), ("round", (("pay", "1", "bye"),)))
+        self.assertEqual((by_heart(goal="cash", board=shown), hearts(board=shown)), ("11", ("cash", "desk")))
+        told = paper(goal="cash", board=shown)
+        self.assertTrue(paper_holds(value=told, least=2, goal="cash", board=shown))
+
     def test_nothing_is_iterable(self):
         top = board().menu("top")
         for value in (top, board(), play(board(), []), InvalidMenu("rows"), NoMenu("top")):
@@ -124,6 +179,32 @@ class Basics(unittest.TestCase):
         self.assertEqual(vars(play(shown, ["1", "-1"])), first)
         self.assertEqual(shown, board())
 
+    def test_what_is_decided_in_order_is_a_tuple(self):
+        for shown in (board(), read("menu a tries 1\nelse out")):
+            for value in (never(shown), comes(shown), caught(shown), astray(shown), hearts(shown)):
+                self.assertIs(type(value), tuple)
+                self.assertEqual(list(value), sorted(value))
+            for name in shown.names:
+                self.assertIs(type(beneath(shown, name)), tuple)
+        self.assertIs(type(astray(board())[0]), tuple)
+
+    def test_what_is_decided_stays_the_same(self):
+        chance = random.Random(51)
+        boards = [board()] + [some_board(chance, 4, 4) for _ in range(10)]
+        texts = [str(shown) for shown in boards]
+        first = [decided(shown) for shown in boards]
+        for shown in reversed(boards):
+            for wrong, call in [
+                (InvalidGoal, lambda: way(shown, "back")), (InvalidStack, lambda: silence(shown, [])),
+                (NoMenu, lambda: beneath(shown, "zzzz")), (InvalidEvent, lambda: play(shown, ["x"])),
+            ]:
+                self.assertRaises(wrong, call)
+            decided(shown.having(shown.names[-1], "5", "main"))
+        self.assertEqual([decided(shown) for shown in boards], first)
+        # A board with the same text, made anew, is told the same of.
+        self.assertEqual([decided(Board.read(text)) for text in texts], first)
+        self.assertEqual([str(shown) for shown in boards], texts)
+
     def test_arguments_stay_as_they_are(self):
         rows = [("9", "out"), ("1", "back")]
         menus = [Menu("top", rows, "out"), Menu("pay", (), "out")]
@@ -146,6 +227,39 @@ class Basics(unittest.TestCase):
         deep = Board([Menu("a", [("1", "call a a")], "back")])
         self.assertEqual(play(deep, ["1"] * 40).stack, ("a",) * 41)
         self.assertEqual(play(deep, ["1" * 40 + "2" * 40]).stack, ("a",))
+
+    def test_full_boards_take_no_time(self):
+        chance = random.Random(52)
+        for _ in range(15):
+            shown = full_board(chance)
+            self.assertEqual([(len(menu.rows), menu.tries) for menu in shown.menus], [(5, 3)] * 6)
+            for function, arguments, told in decided(shown):
+                begun = time.perf_counter()
+                self.assertEqual(function(shown, *arguments), told)
+                self.assertLess(time.perf_counter() - begun, 0.5, (function, arguments, str(shown)))
+
+    def test_calls_within_calls_take_no_time(self):
+        names = "abcdef"
+        rows = "".join(f"\n{digit} call {{0}} {{0}}" for digit in range(1, 6))
+        menus = [f"menu {one} tries 3{rows.format(two)}\nelse call {two} {two}" for one, two in zip(names, names[1:])]
+        shown = read(*menus, "menu f tries 3\n1 line x\n2 line y\n3 out\n4 main\n5 again\nelse back")
+        begun = time.perf_counter()
+        told = decided(shown)
+        self.assertLess((time.perf_counter() - begun) / len(told), 0.1)
+        self.assertEqual(fewest(shown, list(names), "back"), 0)
+        self.assertEqual(fewest(shown, list(names), "y"), 1)
+
+    def test_deciding_beyond_the_limits(self):
+        names = "abcdefghij"
+        rows = "\n".join(f"{digit} call {{0}} {{0}}" for digit in range(9))
+        menus = [f"menu {one} tries 9\n{rows.format(two)}\nelse again" for one, two in zip(names, names[1:])]
+        shown = read(*menus, "menu j tries 9\n1 line x\nelse back")
+        self.assertEqual(fewest(shown, ["a"], "back"), 2 ** 9 - 1)
+        self.assertEqual(fewest(shown, ["a"] * 40 + ["j"] * 40, "x"), 10)
+        self.assertEqual((comes(shown), caught(shown), hearts(shown)), (tuple(names), (), ("x",)))
+        self.assertEqual(play(shown, way(shown, "x")).end, "x")
+        self.assertEqual(silence(shown, list("j" * 30 + "a")), "round")
+        self.assertTrue(paper_holds(shown, "x", 10, paper(shown, "x")))
 
 
 if __name__ == "__main__":
