@@ -44,15 +44,16 @@ def end_by(action):
 
 
 class Call:
-    """A call that goes on, as the events change it."""
+    """A call that goes on from where one stood, as an event changes it."""
 
-    def __init__(self, board):
+    def __init__(self, board, played):
         self._board = board
-        self.end = None
-        self.presses = 0
-        self.started = []
+        self.stack = played.stack
+        self.tries = played.tries
+        self.end = played.end
+        self.presses = played.presses
+        self.started = list(played.started)
         self.pending = ""
-        self.start(board.names[:1])
 
     def start(self, stack):
         """Start the first menu of a stack."""
@@ -105,13 +106,31 @@ class Call:
             self.press(digit)
 
 
+def beginning(board):
+    """How a call stands at its beginning."""
+    main = board.menus[0]
+    return Played((main.name,), main.tries, None, 0, (main.name,))
+
+
+def behind(board, played, event):
+    """How a call that stood so stands behind one more event."""
+    call = Call(board, played)
+    call.do(event)
+    return Played(call.stack, call.tries, call.end, call.presses, tuple(call.started))
+
+
+def go_on(board, played, events, many):
+    """How a call that stood so behind that many events stands behind each of these, with where it stood ahead."""
+    if not isinstance(events, (list, tuple)):
+        raise InvalidEvent(many)
+    found = [played]
+    for at, event in enumerate(events):
+        if found[-1].end is not None or not is_event(event):
+            raise InvalidEvent(many + at)
+        found.append(behind(board, found[-1], event))
+    return found
+
+
 def play(board, events):
     """How a call stands behind these events, from its beginning."""
-    if not isinstance(events, (list, tuple)):
-        raise InvalidEvent(0)
-    call = Call(board)
-    for at, event in enumerate(events):
-        if call.end is not None or not is_event(event):
-            raise InvalidEvent(at)
-        call.do(event)
-    return Played(call.stack, call.tries, call.end, call.presses, tuple(call.started))
+    return go_on(board, beginning(board), events, 0)[-1]

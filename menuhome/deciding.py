@@ -60,6 +60,14 @@ def has_hope(costs, name, hope):
     return (name, "to") in costs or ((name, "home") in costs and hope)
 
 
+def is_hopeful(costs, stack):
+    """Whether a call that stands so can come to some line; with an empty stack it is over."""
+    hope = False
+    for name in reversed(stack):
+        hope = has_hope(costs, name, hope)
+    return hope
+
+
 def starts_by(costs, start, action):
     """The starts by an action of the menu of a start, also the one when what it calls comes home."""
     kind, *names = action.split(" ")

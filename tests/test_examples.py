@@ -1,4 +1,4 @@
-"""The examples that the document shows for what is built so far, and those of the README."""
+"""The examples that the document shows, and those of the README."""
 
 import doctest
 import pathlib
@@ -6,9 +6,12 @@ import unittest
 
 from menuhome.boards import Board
 from menuhome.calls import play
+from menuhome.comparing import alike, heaps
 from menuhome.deciding import beneath, caught, comes, fewest, never, silence, way
+from menuhome.desk import Desk
 from menuhome.hearts import by_heart, hearts
 from menuhome.late import astray
+from menuhome.mending import mends, needless
 from menuhome.papers import paper, paper_holds
 from samples import LINES
 
@@ -73,6 +76,23 @@ class Examples(unittest.TestCase):
             (paper_holds(board, "cash", 2, told), paper_holds(board, "cash", 3, told),
              paper_holds(board, "cash", 2, told[1:])),
             (True, False, False),
+        )
+
+    def test_mending_and_comparing(self):
+        board = self.board
+        twin = Board.read(str(board) + "\nmenu twin tries 1\n2 back\n1 line cash\nelse back")
+        self.assertEqual(
+            (heaps(twin), alike(twin, "pay", "bye"), needless(board), mends(board)),
+            ((("top",), ("pay", "twin"), ("ask",), ("bye",)), False,
+             (("ask", "1"), ("bye", "1"), ("bye", "9"), ("pay", "2"), ("top", "2")), ()),
+        )
+
+    def test_desk(self):
+        desk = Desk()
+        self.assertEqual(
+            (desk.say("board " + " ; ".join(LINES)), desk.say("do 1"), desk.say("silence"), desk.say("do 1"),
+             desk.say("presses"), desk.say("fewest cash"), desk.say("caught")),
+            ("4", "pay bye", "out", "cash", "2", "2", "ask bye"),
         )
 
     def test_readme(self):

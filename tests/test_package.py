@@ -10,19 +10,27 @@ import unittest
 import menuhome
 import menuhome.boards
 import menuhome.calls
+import menuhome.comparing
 import menuhome.deciding
+import menuhome.desk
 import menuhome.errors
 import menuhome.hearts
 import menuhome.late
+import menuhome.live
+import menuhome.mending
 import menuhome.menus
 import menuhome.papers
-from chances import full_board, some_board
+from chances import full_board, some_board, some_event, twin_board
 from menuhome.boards import Board
 from menuhome.calls import Played, play
+from menuhome.comparing import alike, heaps, merged
 from menuhome.deciding import beneath, caught, comes, fewest, never, silence, way
-from menuhome.errors import InvalidEvent, InvalidGoal, InvalidMenu, InvalidStack, NoMenu
+from menuhome.desk import Desk
+from menuhome.errors import InvalidCommand, InvalidEvent, InvalidGoal, InvalidMenu, InvalidStack, NoMenu, Refused
 from menuhome.hearts import by_heart, hearts
 from menuhome.late import astray
+from menuhome.live import Live
+from menuhome.mending import mends, needless
 from menuhome.menus import Menu
 from menuhome.papers import paper, paper_holds
 from samples import LINES, board, read
@@ -49,6 +57,12 @@ CLASSES = {
     menuhome.calls: {
         "Played": (None, []),
     },
+    menuhome.live: {
+        "Live": (["board"], ["board", "events", "played", "alive", "do", "several", "undo", "within", "__len__"]),
+    },
+    menuhome.desk: {
+        "Desk": ([], ["say"]),
+    },
 }
 
 FUNCTIONS = {
@@ -65,12 +79,16 @@ FUNCTIONS = {
     menuhome.late: {"astray": ["board"]},
     menuhome.hearts: {"by_heart": ["board", "goal"], "hearts": ["board"]},
     menuhome.papers: {"paper": ["board", "goal"], "paper_holds": ["board", "goal", "least", "value"]},
+    menuhome.mending: {"mends": ["board"], "needless": ["board"]},
+    menuhome.comparing: {"alike": ["board", "one", "other"], "heaps": ["board"], "merged": ["board"]},
 }
 
 
 def decided(shown):
     """All that is decided about a board: pairs of what is asked and what is told."""
     asked = [(never, ()), (comes, ()), (caught, ()), (astray, ()), (hearts, ())]
+    asked += [(mends, ()), (needless, ()), (heaps, ()), (merged, ())]
+    asked += [(alike, (one, other)) for one in shown.names for other in shown.names]
     asked += [(beneath, (name,)) for name in shown.names]
     stacks = [shown.names, shown.names[::-1]] + [[name] for name in shown.names]
     asked += [(silence, (stack,)) for stack in stacks]
@@ -105,6 +123,13 @@ class Interface(unittest.TestCase):
         self.assertEqual(parameters(Board.read), ["text"])
         self.assertIsInstance(vars(Menu)["read"], classmethod)
         self.assertIsInstance(vars(Board)["read"], classmethod)
+        self.assertEqual(parameters(Live.do), ["self", "event"])
+        self.assertEqual(parameters(Live.several), ["self", "events"])
+        self.assertEqual(parameters(Live.undo), ["self"])
+        self.assertEqual(parameters(Live.within), ["self", "work"])
+        self.assertEqual(parameters(Desk.say), ["self", "command"])
+        for name in ("board", "events", "played", "alive"):
+            self.assertIsInstance(vars(Live)[name], property)
 
     def test_functions_stand_in_their_files(self):
         for module, functions in FUNCTIONS.items():
@@ -151,10 +176,39 @@ class Basics(unittest.TestCase):
         self.assertEqual((by_heart(goal="cash", board=shown), hearts(board=shown)), ("11", ("cash", "desk")))
         told = paper(goal="cash", board=shown)
         self.assertTrue(paper_holds(value=told, least=2, goal="cash", board=shown))
+        self.assertEqual((mends(board=shown), len(needless(board=shown))), ((), 5))
+        self.assertEqual((heaps(board=shown), merged(board=shown)), ((("top",), ("pay",), ("ask",), ("bye",)), shown))
+        self.assertIs(alike(other="pay", one="top", board=shown), False)
+        with self.assertRaises(NoMenu) as error:
+            alike(other="x", board=shown, one="y")
+        self.assertEqual(error.exception.name, "y")
+
+    def test_arguments_by_name_in_another_order(self):
+        shown = board()
+        self.assertEqual(play(events=["1"], board=shown).stack, ("pay", "bye"))
+        self.assertEqual(fewest(goal="back", stack=("pay", "bye"), board=shown), 1)
+        self.assertEqual(shown.having(action="out", digit="7", name="pay"), shown.having("pay", "7", "out"))
+        self.assertEqual(Menu(tail="out", name="top", rows=()), Menu("top", (), "out"))
+        self.assertEqual(Menu("top", clears=True, tail="out", rows=[]), Menu("top", [], "out", 1, True))
+
+    def test_arguments_by_name_of_errors(self):
+        for name, (arguments, _) in CLASSES[menuhome.errors].items():
+            error = getattr(menuhome.errors, name)(**{word: [name] for word in arguments or []})
+            self.assertEqual(vars(error), {word: [name] for word in arguments or []})
+
+    def test_arguments_by_name_of_what_changes(self):
+        live = Live(board=board())
+        self.assertEqual(live.do(event="1"), ("pay", "bye"))
+        self.assertEqual(live.several(events=["-", "1"]), (("bye",), ("bye",)))
+        self.assertEqual(live.within(work=lambda again: again.do(event="9")), ())
+        self.assertEqual((live.undo(), len(live), live.events), (True, 1, ("1",)))
+        desk = Desk()
+        self.assertEqual(desk.say(command="board menu a tries 1 ; else out"), "1")
+        self.assertEqual(desk.say(command="presses"), "0")
 
     def test_nothing_is_iterable(self):
         top = board().menu("top")
-        for value in (top, board(), play(board(), []), InvalidMenu("rows"), NoMenu("top")):
+        for value in (top, board(), play(board(), []), InvalidMenu("rows"), NoMenu("top"), Live(board()), Desk()):
             with self.assertRaises(TypeError):
                 iter(value)
             with self.assertRaises(TypeError):
@@ -181,7 +235,8 @@ class Basics(unittest.TestCase):
 
     def test_what_is_decided_in_order_is_a_tuple(self):
         for shown in (board(), read("menu a tries 1\nelse out")):
-            for value in (never(shown), comes(shown), caught(shown), astray(shown), hearts(shown)):
+            for value in (never(shown), comes(shown), caught(shown), astray(shown), hearts(shown), mends(shown),
+                          needless(shown)):
                 self.assertIs(type(value), tuple)
                 self.assertEqual(list(value), sorted(value))
             for name in shown.names:
@@ -190,13 +245,15 @@ class Basics(unittest.TestCase):
 
     def test_what_is_decided_stays_the_same(self):
         chance = random.Random(51)
-        boards = [board()] + [some_board(chance, 4, 4) for _ in range(10)]
+        boards = [board()] + [some_board(chance, 4, 4) for _ in range(8)] + [twin_board(chance, 2, 2, 3)]
         texts = [str(shown) for shown in boards]
         first = [decided(shown) for shown in boards]
         for shown in reversed(boards):
             for wrong, call in [
                 (InvalidGoal, lambda: way(shown, "back")), (InvalidStack, lambda: silence(shown, [])),
                 (NoMenu, lambda: beneath(shown, "zzzz")), (InvalidEvent, lambda: play(shown, ["x"])),
+                (NoMenu, lambda: alike(shown, "zzzz", 5)), (Refused, lambda: Live(shown).several(["1", "x"])),
+                (InvalidCommand, lambda: Desk().say("undo")),
             ]:
                 self.assertRaises(wrong, call)
             decided(shown.having(shown.names[-1], "5", "main"))
@@ -204,6 +261,56 @@ class Basics(unittest.TestCase):
         # A board with the same text, made anew, is told the same of.
         self.assertEqual([decided(Board.read(text)) for text in texts], first)
         self.assertEqual([str(shown) for shown in boards], texts)
+
+    def test_live_calls_and_desks_stay_the_same_while_nothing_is_done(self):
+        chance = random.Random(53)
+        for _ in range(20):
+            shown = some_board(chance, 4, 4)
+            live, desk = Live(shown), Desk()
+            desk.say("board " + str(shown).replace("\n", " ; "))
+            for _ in range(3):
+                if live.played.end is None:
+                    event = some_event(chance)
+                    live.do(event)
+                    desk.say("do " + event)
+            first = self.told(live, desk)
+            live.within(lambda again: (again.several([]), again.undo(), again.undo(), again.undo()))
+            self.assertRaises(Refused, live.several, [None])
+            for command in ("do x", "fewest back", "board x", "again"):
+                self.assertRaises(ValueError, desk.say, command)
+            decided(shown)
+            Desk().say("board menu a tries 1 ; else out")
+            self.assertEqual(self.told(live, desk), first)
+
+    def told(self, live, desk):
+        """All that a live call and a desk tell without a change."""
+        commands = ["presses", "silence", "caught", *[f"fewest {line}" for line in live.board.lines]]
+        answers = [desk.say(command) for command in commands]
+        return str(live.board), live.events, vars(live.played), live.alive, len(live), answers
+
+    def test_what_was_returned_may_be_passed_on(self):
+        chance = random.Random(54)
+        for _ in range(40):
+            shown = merged(twin_board(chance, 4, 2, 5))
+            for line in shown.lines:
+                for events in (way(shown, line), by_heart(shown, line)):
+                    if events is not None:
+                        self.pass_on(shown, (events,) if isinstance(events, str) else events, line)
+            for row in needless(shown)[:2]:
+                fewest(shown.having(*row, "main"), shown.names, "back")
+            for row in mends(shown)[::9]:
+                self.assertEqual(caught(shown.having(*row)), ())
+
+    def pass_on(self, shown, events, line):
+        live, desk = Live(shown), Desk()
+        desk.say("board " + str(live.board).replace("\n", " ; "))
+        for stack in live.several(events)[:-1]:
+            silence(shown, stack)
+            fewest(shown, stack, line)
+        for event in live.events:
+            answer = desk.say(f"do {event}")
+        self.assertEqual((live.played.end, answer), (line, line))
+        self.assertEqual(vars(play(shown, live.events)), vars(live.played))
 
     def test_arguments_stay_as_they_are(self):
         rows = [("9", "out"), ("1", "back")]
@@ -237,6 +344,74 @@ class Basics(unittest.TestCase):
                 begun = time.perf_counter()
                 self.assertEqual(function(shown, *arguments), told)
                 self.assertLess(time.perf_counter() - begun, 0.5, (function, arguments, str(shown)))
+
+    def assert_no_time(self, function, *arguments):
+        """What a call returns, which took well below a second."""
+        begun = time.perf_counter()
+        told = function(*arguments)
+        self.assertLess(time.perf_counter() - begun, 0.5, (function, arguments))
+        return told
+
+    def long_calls(self):
+        """Boards, and 60 events of 12 digits by which no call on them is over."""
+        deeper = read("menu a tries 3\n1 call a b\n2 back\n3 line x\nelse again",
+                      "menu b tries 3\n1 call a b\n2 back\nelse again")
+        yield deeper, ["1" * 12] * 60
+        yield deeper, ["1" * 12, "2" * 11 + "0"] * 30
+        chance = random.Random(55)
+        for _ in range(4):
+            events = ["".join(chance.choice("12345") for _ in range(12)) for _ in range(60)]
+            yield self.endless(full_board(chance)), events
+
+    def endless(self, shown):
+        """The board with main in the place of all by which a call is over."""
+        text = str(shown).replace("line x", "main").replace("line y", "again").replace(" out", " main")
+        return Board.read(text.replace(" back", " go a"))
+
+    def test_long_live_calls_take_no_time(self):
+        for shown, events in self.long_calls():
+            played = self.assert_no_time(play, shown, events)
+            self.assertIsNone(played.end)
+            live = self.assert_no_time(Live, shown)
+            for event in events:
+                self.assert_no_time(live.do, event)
+            self.assertEqual((live.events, vars(live.played), len(live)), (tuple(events), vars(played), 60))
+            for left in range(60, 0, -1):
+                self.assertEqual(len(live), left)
+                self.assertIs(self.assert_no_time(live.undo), True)
+            self.assertIs(live.undo(), False)
+            stacks = self.assert_no_time(live.several, events)
+            self.assertEqual((len(stacks), stacks[-1]), (60, played.stack))
+            self.assert_no_time(live.within, lambda again: (again.undo(), again.several(events), again.alive))
+            self.assertEqual((live.events, len(live)), (tuple(events), 1))
+
+    def test_long_calls_at_a_desk_take_no_time(self):
+        for shown, events in self.long_calls():
+            desk = Desk()
+            self.assert_no_time(desk.say, "board " + str(shown).replace("\n", " ; "))
+            for at, event in enumerate(events):
+                answer = self.assert_no_time(desk.say, f"do {event}")
+                for command in ("presses", "silence", "caught"):
+                    self.assert_no_time(desk.say, command)
+                if at % 20 == 0:
+                    self.assertEqual(answer, " ".join(play(shown, events[:at + 1]).stack))
+            for _ in events:
+                self.assertEqual(self.assert_no_time(desk.say, "undo"), "undone")
+            self.assertEqual((desk.say("undo"), desk.say("presses")), ("nothing", "0"))
+
+    def test_many_lines_take_no_time(self):
+        chance = random.Random(56)
+        for _ in range(10):
+            lines = iter([one + other for one in "xyz" for other in "abcdefghijkl"])
+            menus = []
+            for name, behind in zip("abcdef", "bcdeff"):
+                rows = [("1", f"call {behind} a"), ("2", f"go {behind}")]
+                rows += [(digit, f"line {next(lines)}") for digit in "345"]
+                menus.append(Menu(name, rows, chance.choice(["back", "again", "main", "out"]), 3))
+            shown = Board(menus)
+            self.assertEqual(len(shown.lines), 18)
+            self.assertEqual(needless(shown), self.assert_no_time(needless, shown))
+            self.assertEqual(mends(shown), self.assert_no_time(mends, shown))
 
     def test_calls_within_calls_take_no_time(self):
         names = "abcdef"
