@@ -120,7 +120,7 @@ def behind(board, played, event):
 
 
 def go_on(board, played, events, many):
-    """How a call that stood so behind that many events stands behind each of these, with where it stood ahead."""
+    """How a call stands ahead of these events and behind each of them, when it stood so behind that many others."""
     if not isinstance(events, (list, tuple)):
         raise InvalidEvent(many)
     found = [played]

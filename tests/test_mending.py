@@ -119,6 +119,15 @@ class Mends(MendsCase):
         self.assert_mends(shown, ("b", "main"))
         self.assertEqual(mends(read(f"menu a tries 1\n{rows}\nelse out")), ())
 
+    def test_ascending_whatever_the_order_of_the_board(self):
+        shown = read("menu z tries 1\n1 go b\n9 line x\nelse out", "menu b tries 1\n5 go k\nelse out",
+                     "menu k tries 1\n0 go b\nelse out")
+        self.assert_mends(shown, ("b", "main"), ("k", "main"))
+        self.assertEqual([mends(shown)[at] for at in (0, 8, 9, 17)],
+                         [("b", "0", "main"), ("b", "9", "main"), ("k", "1", "main"), ("k", "9", "main")])
+        shown = read("menu z tries 1\n1 line x\nelse out", "menu b tries 1\nelse out")
+        self.assertEqual(list(mends(shown)), sorted(kinds(shown)))
+
     def test_digits_that_have_a_row_are_not_told(self):
         shown = read("menu a tries 1\n0 line x\n5 go a\n9 out\nelse back")
         self.assertEqual({digit for name, digit, word in mends(shown)}, set("1234678"))
